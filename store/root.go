@@ -36,10 +36,11 @@ func (t *Table) Prove(keys ...string) (api.Proof, api.Errno) {
 // hung is the map under the root: by rising keys, so that of keys of one digest the greatest counts.
 func (t *Table) hung() *sparse.Map {
 	if t.digests == nil {
-		t.digests = sparse.New()
+		m := sparse.New()
 		for _, p := range t.pairs() {
-			t.digests.Put(overKey(p.Key), overValue(p.Value))
+			m.Put(overKey(p.Key), overValue(p.Value))
 		}
+		t.digests = m
 	}
 	return t.digests
 }
