@@ -454,7 +454,7 @@ var theStory = sync.OnceValue(func() story {
 	add(107, confirm(dan), s.side.claiming(oda, 0, s.side.commits[8].Leaves), s.side.claiming(oda, 1, s.side.commits[8].Leaves), s.side.claiming(oda, 0, s.side.commits[8].Leaves))
 	add(107, post(ann, s.side.commits[30]), post(bob, s.side.lie(40)), fight(cyd, 5), fight(cyd, 6), split(bob, 6, cyd, s.side.lie(35)), pick(cyd, 6, 0), split(bob, 6, cyd, s.side.commits[32]), pick(cyd, 6, 1), split(bob, 6, cyd, s.side.commits[33]), pick(cyd, 6, 1), split(bob, 6, cyd, s.side.commits[34]), pick(cyd, 6, 1))
 	add(108, split(ann, 5, cyd, s.side.commits[19]), prove(cyd, 6, s.side.shown(33, 34)), prove(cyd, 6, s.side.shown(34, 35)), deposit(dan, 2, dan, of(3), 100))
-	add(119, expire(bob, 5, cyd), api.Op{Kind: 14}, api.Op{Kind: 6, Gas: 1, Body: []byte{1, 2}, Path: []api.Digest{{3}}})
+	add(119, expire(bob, 5, cyd), api.Op{Kind: 14}, api.Op{Kind: 4, By: ann, Body: make([]byte, 4097)}, api.Op{Kind: 6, Gas: 1, Body: []byte{1, 2}, Path: []api.Digest{{3}}})
 	add(207, confirm(cyd), s.side.claiming(ann, 2, s.side.commits[30].Leaves), s.side.claiming(ann, 25, s.side.commits[30].Leaves), s.side.claiming(ann, 1, s.side.commits[8].Leaves))
 	return s
 })
