@@ -59,7 +59,7 @@ func (n *Node) Ticket(number int) (api.Ticket, api.Errno) {
 
 // Leaves tells how many leaves there are.
 func (n *Node) Leaves() int {
-	if n == nil {
+	if n == nil || n.book == nil { // a node that New did not make has no leaves
 		return 0
 	}
 	return n.book.Len()
