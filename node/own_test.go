@@ -461,3 +461,19 @@ func TestR1_Nil(t *testing.T) {
 		t.Errorf("Witness of a nil node: %x, %d", w, int(e))
 	}
 }
+
+// A node that nobody made with New has nothing, and is no reason to panic for whoever looks at it.
+func TestR1_Zero(t *testing.T) {
+	n := &Node{}
+	if n.Leaves() != 0 {
+		t.Errorf("a zero node has %d leaves", n.Leaves())
+	}
+	for _, index := range []int{-1, 0, 1} {
+		wantLeaf(t, n, index, api.Leaf{}, 203)
+		for size := range 3 {
+			if p, e := n.Path(index, size); len(p) != 0 || e != 203 {
+				t.Errorf("Path(%d, %d) of a zero node: %x, %d", index, size, p, int(e))
+			}
+		}
+	}
+}
